@@ -198,6 +198,8 @@ func TestWhatIsNotHeard(t *testing.T) {
 	hear(t, l, false, pre(1, stands(4, id(1), id(2))))
 	hear(t, l, false, pre(1, stands(9)))
 	is(t, l, Proposing, 0, 2)
+	hear(t, l, false, pre(2, stands(4, id(1), id(2)))) // the second one of node 1 tells nothing
+	is(t, l, Proposing, 0)
 }
 
 func TestCommitted(t *testing.T) {

@@ -443,6 +443,13 @@ func TestCommitOfWhatIsLed(t *testing.T) {
 	}
 }
 
+// What a node tells itself comes behind what it tells all others.
+func TestOwnBookIsHeardLast(t *testing.T) {
+	n := fresh(t, 1, three)
+	did(t, n.Deliver(api.Msg{Kind: api.MsgCommit, From: 0, To: 1, ID: id(1, 0)}), "", "1.0:3", "commit1.0 apply1.0 reply1.0")
+	did(t, n.Call(ask(1, 1, api.OpGet, "/")), "pre0 pre2 commit0 commit2", "", "")
+}
+
 func TestNothingIsShared(t *testing.T) {
 	n := fresh(t, 0, three)
 	n.Call(ask(1, 1, api.OpCreate, "/a"))
