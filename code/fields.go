@@ -116,6 +116,8 @@ func list[T any](f fields, l []T, walk func(fields, T) T) []T {
 	return out
 }
 
+func name(f fields, s string) string { return f.text(s) }
+
 func id(f fields, x api.ID) api.ID {
 	x.Epoch = f.num(x.Epoch)
 	x.Node = f.num(x.Node)
@@ -160,13 +162,13 @@ func reply(f fields, r api.Reply) api.Reply {
 	r.Err = number(f, r.Err)
 	r.Value = f.text(r.Value)
 	r.Version = f.num(r.Version)
-	r.Names = list(f, r.Names, fields.text)
+	r.Names = list(f, r.Names, name)
 	return r
 }
 
 func config(f fields, c api.Config) api.Config {
 	c.Epoch = f.num(c.Epoch)
-	c.Nodes = list(f, c.Nodes, fields.num)
+	c.Nodes = list(f, c.Nodes, number[int])
 	return c
 }
 
